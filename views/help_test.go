@@ -1,0 +1,64 @@
+package views_test
+
+import (
+	"fmt"
+	"testing"
+
+	"views/api"
+	"views/views"
+)
+
+func entry(relation string, weight int, row ...int64) api.Entry {
+	return api.Entry{Relation: relation, Row: row, Weight: weight}
+}
+
+// engineOfThree has one of arity 1, two of arity 2, three of arity 3.
+func engineOfThree(t *testing.T) *views.Engine {
+	t.Helper()
+	e := views.New()
+	wantCreate(t, e, "one", 1, api.OK)
+	wantCreate(t, e, "two", 2, api.OK)
+	wantCreate(t, e, "three", 3, api.OK)
+	return e
+}
+
+func wantCreate(t *testing.T, e *views.Engine, name string, arity int, want api.Errno) {
+	t.Helper()
+	if got := e.Create(name, arity); got != want {
+		t.Errorf("Create(%.20q, %d) = %d, want %d", name, arity, got, want)
+	}
+}
+
+func wantApply(t *testing.T, e *views.Engine, batch []api.Entry, want api.Errno, place int) {
+	t.Helper()
+	if got, at := e.Apply(batch); got != want || at != place {
+		t.Errorf("Apply(%.80s) = %d, %d, want %d, %d", fmt.Sprint(batch), got, at, want, place)
+	}
+}
+
+// wantRefused asks also that nothing has changed (P1).
+func wantRefused(t *testing.T, e *views.Engine, batch []api.Entry, want api.Errno, place int) {
+	t.Helper()
+	before := tellAll(e)
+	wantApply(t, e, batch, want, place)
+	if after := tellAll(e); after != before {
+		t.Errorf("refused, yet it was %s and is %s", before, after)
+	}
+}
+
+func wantRows(t *testing.T, e *views.Engine, relation string, want string) {
+	t.Helper()
+	rows, wrong := e.Rows(relation)
+	if got := fmt.Sprint(rows); got != want || wrong != api.OK {
+		t.Errorf("Rows(%s) = %s, %d, want %s", relation, got, wrong, want)
+	}
+}
+
+func tellAll(e *views.Engine) string {
+	text := ""
+	for _, name := range []string{"one", "two", "three"} {
+		rows, wrong := e.Rows(name)
+		text += fmt.Sprint(name, rows, wrong)
+	}
+	return text
+}

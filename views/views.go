@@ -1,0 +1,91 @@
+// Package views: joins that are kept up to date, batch by batch: see DOC.md.
+package views
+
+import (
+	"strings"
+
+	"views/api"
+	"views/relation"
+)
+
+// Engine: relations, and views of them.
+type Engine struct {
+	relations map[string]*relation.Relation
+}
+
+// New makes an engine.
+func New() *Engine {
+	return &Engine{relations: map[string]*relation.Relation{}}
+}
+
+// Create makes a relation (P3).
+func (e *Engine) Create(name string, arity int) api.Errno {
+	if !isName(name) {
+		return api.ErrName
+	}
+	if arity < 1 || arity > api.MaxArity {
+		return api.ErrArity
+	}
+	if _, taken := e.relations[name]; taken {
+		return api.ErrTaken
+	}
+	if len(e.relations) >= api.MaxRelations {
+		return api.ErrLimit
+	}
+	// The name may be a piece of a long text, which would be kept with it.
+	e.relations[strings.Clone(name)] = relation.New(arity)
+	return api.OK
+}
+
+// Register makes a view (P4).
+func (e *Engine) Register(name string, query string, order string) (api.Errno, int) {
+	return api.OK, 0
+}
+
+// Drop takes a view away (P5).
+func (e *Engine) Drop(name string) api.Errno { return api.OK }
+
+// Apply adds a batch (P6).
+func (e *Engine) Apply(batch []api.Entry) (api.Errno, int) {
+	if len(batch) > api.MaxBatch {
+		return api.ErrLimit, 0
+	}
+	for i, entry := range batch {
+		if wrong := e.checkEntry(entry); wrong != api.OK {
+			return wrong, i
+		}
+	}
+	changes := sumByRelation(batch)
+	if wrong := e.checkChanges(changes); wrong != api.OK {
+		return wrong, 0
+	}
+	for name, change := range changes {
+		e.relations[name].Add(change)
+	}
+	return api.OK, 0
+}
+
+// Compact makes one run of many (P9).
+func (e *Engine) Compact() int { return 0 }
+
+// Rows tells a relation's rows (P7).
+func (e *Engine) Rows(relation string) ([]api.Row, api.Errno) {
+	r, known := e.relations[relation]
+	if !known {
+		return nil, api.ErrUnknown
+	}
+	rows := make([]api.Row, 0, r.Len())
+	for row, weight := range r.All() {
+		// Each row has Values of its own: owners may write into them, and append.
+		values := make([]int64, r.Arity())
+		copy(values, row[:])
+		rows = append(rows, api.Row{Values: values, Weight: int64(weight)})
+	}
+	return rows, api.OK
+}
+
+// Read tells a view's rows (P7).
+func (e *Engine) Read(view string) ([]api.Row, api.Errno) { return nil, api.OK }
+
+// Group tells a view's sums (P8).
+func (e *Engine) Group(view string, columns int) ([]api.Row, api.Errno) { return nil, api.OK }
