@@ -20,6 +20,19 @@ func TestCreateKeepsACopyOfTheName(t *testing.T) {
 	}
 }
 
+func TestRegisterKeepsACopyOfTheName(t *testing.T) {
+	e, name := New(), string([]byte("abc"))
+	e.Create("r", 1)
+	if wrong, _ := e.Register(name, "(X):-r(X)", ""); wrong != api.OK {
+		t.Fatalf("Register = %d", wrong)
+	}
+	for kept := range e.views {
+		if unsafe.StringData(kept) == unsafe.StringData(name) {
+			t.Error("the name's bytes are the caller's")
+		}
+	}
+}
+
 // A row without a weight is not kept, however many come and go.
 func TestApplyKeepsNoRowWithoutWeight(t *testing.T) {
 	e := New()

@@ -27,6 +27,9 @@ func TestNoCallPanics(t *testing.T) {
 			e.Read(text)
 			e.Drop(text)
 			e.Register(text, text, text)
+			e.Register("v", text, text)
+			e.Register("v", "(X):-one(X)", text)
+			e.Register("v", "(X):-one("+text, text)
 		}
 		e.Apply(nil)
 		e.Apply(make([]api.Entry, 1<<16))

@@ -8,14 +8,16 @@ import (
 	"views/relation"
 )
 
-// Engine: relations, and views of them.
+// Engine: relations, and views of them. What a view holds cannot be asked yet,
+// so no more than its name is kept.
 type Engine struct {
 	relations map[string]*relation.Relation
+	views     map[string]struct{}
 }
 
 // New makes an engine.
 func New() *Engine {
-	return &Engine{relations: map[string]*relation.Relation{}}
+	return &Engine{relations: map[string]*relation.Relation{}, views: map[string]struct{}{}}
 }
 
 // Create makes a relation (P3).
@@ -39,11 +41,29 @@ func (e *Engine) Create(name string, arity int) api.Errno {
 
 // Register makes a view (P4).
 func (e *Engine) Register(name string, query string, order string) (api.Errno, int) {
+	if wrong := e.checkNewView(name, query); wrong != api.OK {
+		return wrong, 0
+	}
+	read, err := e.readQuery(query)
+	if wrong, place := faultOf(err); wrong != api.OK {
+		return wrong, place
+	}
+	if !read.OrderFits(order) {
+		return api.ErrOrder, 0
+	}
+	// The name may be a piece of a long text, which would be kept with it.
+	e.views[strings.Clone(name)] = struct{}{}
 	return api.OK, 0
 }
 
 // Drop takes a view away (P5).
-func (e *Engine) Drop(name string) api.Errno { return api.OK }
+func (e *Engine) Drop(name string) api.Errno {
+	if _, known := e.views[name]; !known {
+		return api.ErrUnknown
+	}
+	delete(e.views, name)
+	return api.OK
+}
 
 // Apply adds a batch (P6).
 func (e *Engine) Apply(batch []api.Entry) (api.Errno, int) {
