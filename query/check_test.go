@@ -72,3 +72,15 @@ func TestOrderFits(t *testing.T) {
 		}
 	}
 }
+
+func TestVariablesAsTheyFirstCome(t *testing.T) {
+	for _, c := range []struct{ text, want string }{
+		{"():-one(7)", ""},
+		{"(A):-two(Z,A),one(A),two(A,B)", "ZAB"},
+		{"():-two(X,X),two(3,X)", "X"},
+	} {
+		if got := string(readGood(t, c.text).Variables()); got != c.want {
+			t.Errorf("Variables of %q = %q, want %q", c.text, got, c.want)
+		}
+	}
+}

@@ -1,6 +1,8 @@
 // Package query: the text of a query, read into its parts, and what may be wrong with it.
 package query
 
+import "slices"
+
 // Query is a head, and the atoms of a body.
 type Query struct {
 	Head []HeadVariable
@@ -36,10 +38,19 @@ func (l *letters) add(letter byte) { *l |= 1 << (letter - 'A') }
 
 func (q *Query) bodyLetters() letters {
 	var found letters
+	for _, letter := range q.Variables() {
+		found.add(letter)
+	}
+	return found
+}
+
+// Variables lists those of the body, each once, as they first come.
+func (q *Query) Variables() []byte {
+	var found []byte
 	for _, atom := range q.Body {
 		for _, term := range atom.Terms {
-			if term.Letter != 0 {
-				found.add(term.Letter)
+			if term.Letter != 0 && !slices.Contains(found, term.Letter) {
+				found = append(found, term.Letter)
 			}
 		}
 	}

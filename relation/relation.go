@@ -3,10 +3,10 @@ package relation
 
 import (
 	"iter"
-	"maps"
 	"slices"
 
 	"views/api"
+	"views/sums"
 )
 
 // Row is an array, so that rows are compared by value and are the keys of maps.
@@ -20,23 +20,11 @@ func RowOf(numbers []int64) Row {
 	return row
 }
 
-func compareRows(a, b Row) int {
-	return slices.Compare(a[:], b[:])
-}
+// Compare is below 0, if the row comes ahead of the other, and above 0, if behind it.
+func (r Row) Compare(other Row) int { return slices.Compare(r[:], other[:]) }
 
-// Weights has the rows whose weight is not 0, and no others: so its length
-// is the number of rows.
-type Weights map[Row]int
-
-// Add adds to the weight of one row.
-func (w Weights) Add(row Row, weight int) {
-	sum := w[row] + weight
-	if sum == 0 {
-		delete(w, row)
-		return
-	}
-	w[row] = sum
-}
+// Weights are those that a relation's rows have, or that a batch adds to them.
+type Weights = sums.Sums[Row]
 
 // Relation is an arity, and the weights of rows with that many numbers.
 type Relation struct {
@@ -90,12 +78,4 @@ func (r *Relation) Add(change Weights) {
 func (r *Relation) Len() int { return len(r.weights) }
 
 // All tells the rows in order, each with its weight.
-func (r *Relation) All() iter.Seq2[Row, int] {
-	return func(yield func(Row, int) bool) {
-		for _, row := range slices.SortedFunc(maps.Keys(r.weights), compareRows) {
-			if !yield(row, r.weights[row]) {
-				return
-			}
-		}
-	}
-}
+func (r *Relation) All() iter.Seq2[Row, int64] { return r.weights.All() }

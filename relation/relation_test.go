@@ -17,18 +17,6 @@ func TestRowOfCopies(t *testing.T) {
 	}
 }
 
-func TestWeightsHaveNoNought(t *testing.T) {
-	w := Weights{}
-	w.Add(Row{1}, 0)
-	w.Add(Row{2}, 3)
-	w.Add(Row{2}, -3)
-	w.Add(Row{3}, -3)
-	w.Add(Row{3}, 1)
-	if len(w) != 1 || w[Row{3}] != -2 {
-		t.Errorf("weights = %v", w)
-	}
-}
-
 func TestWeightsFit(t *testing.T) {
 	r := New(1)
 	r.Add(Weights{{1}: api.MaxWeight, {2}: -api.MaxWeight})
@@ -92,11 +80,11 @@ func TestAllIsInOrder(t *testing.T) {
 	}
 	for i := range want {
 		row := want[(i*5+3)%len(want)]
-		r.Add(Weights{row: int(row[2]) + 50})
+		r.Add(Weights{row: row[2] + 50})
 	}
 	var got []Row
 	for row, weight := range r.All() {
-		if weight != int(row[2])+50 {
+		if weight != row[2]+50 {
 			t.Errorf("weight of %v = %d", row, weight)
 		}
 		got = append(got, row)
@@ -110,7 +98,7 @@ func TestAllStopsWhenAskedNoMore(t *testing.T) {
 	r := New(1)
 	r.Add(Weights{{1}: 1, {2}: 1, {3}: 1})
 	calls := 0
-	r.All()(func(Row, int) bool {
+	r.All()(func(Row, int64) bool {
 		calls++
 		return calls < 2
 	})

@@ -247,11 +247,7 @@ func batchOf(m model, draw func(int) int) []api.Entry {
 }
 
 func TestApplyIsAsTheModel(t *testing.T) {
-	state := uint64(7)
-	draw := func(n int) int {
-		state = state*6364136223846793005 + 1442695040888963407
-		return int(state>>33) % n
-	}
+	draw := drawFrom(7)
 	seen := map[api.Errno]int{}
 	for range 40 {
 		e, m := engineOfThree(t), model{}

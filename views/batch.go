@@ -30,7 +30,7 @@ func sumByRelation(batch []api.Entry) map[string]relation.Weights {
 			change = relation.Weights{}
 			changes[entry.Relation] = change
 		}
-		change.Add(relation.RowOf(entry.Row), entry.Weight)
+		change.Add(relation.RowOf(entry.Row), int64(entry.Weight))
 	}
 	return changes
 }
@@ -49,4 +49,21 @@ func (e *Engine) checkChanges(changes map[string]relation.Weights) api.Errno {
 		}
 	}
 	return api.OK
+}
+
+// add brings the change to all that is kept of the relations. The indexes have
+// the rows without it and those with it until every view has gained by it.
+func (e *Engine) add(changes map[string]relation.Weights) {
+	for key, x := range e.indexes {
+		x.Bring(changes[key.Relation])
+	}
+	for _, v := range e.views {
+		v.gain()
+	}
+	for _, x := range e.indexes {
+		x.Settle()
+	}
+	for name, change := range changes {
+		e.relations[name].Add(change)
+	}
 }

@@ -54,11 +54,33 @@ func wantRows(t *testing.T, e *views.Engine, relation string, want string) {
 	}
 }
 
+func wantRead(t *testing.T, e *views.Engine, view string, want string) {
+	t.Helper()
+	rows, wrong := e.Read(view)
+	if got := fmt.Sprint(rows); got != want || wrong != api.OK {
+		t.Errorf("Read(%s) = %.300s, %d, want %.300s", view, got, wrong, want)
+	}
+}
+
+// tellAll has the rows of all relations, and of all views with a name of one letter.
 func tellAll(e *views.Engine) string {
 	text := ""
 	for _, name := range []string{"one", "two", "three"} {
 		rows, wrong := e.Rows(name)
 		text += fmt.Sprint(name, rows, wrong)
 	}
+	for name := 'a'; name <= 'z'; name++ {
+		if rows, wrong := e.Read(string(name)); wrong == api.OK {
+			text += fmt.Sprint(string(name), rows)
+		}
+	}
 	return text
+}
+
+// drawFrom gives numbers from 0 on, the same ones at each run of the test.
+func drawFrom(state uint64) func(n int) int {
+	return func(n int) int {
+		state = state*6364136223846793005 + 1442695040888963407
+		return int(state>>33) % n
+	}
 }

@@ -30,6 +30,7 @@ func TestNoCallPanics(t *testing.T) {
 			e.Register("v", text, text)
 			e.Register("v", "(X):-one(X)", text)
 			e.Register("v", "(X):-one("+text, text)
+			e.Read("v")
 		}
 		e.Apply(nil)
 		e.Apply(make([]api.Entry, 1<<16))
@@ -42,6 +43,13 @@ func TestEnginesKnowNothingOfOneAnother(t *testing.T) {
 	wantApply(t, a, []api.Entry{entry("one", 1, 1)}, api.OK, 0)
 	wantRows(t, a, "one", "[{[1] 1}]")
 	wantRows(t, b, "one", "[]")
+	wantRegister(t, a, "v", "(X):-one(X)", "", api.OK, 0)
+	wantRegister(t, b, "v", "(X):-one(X)", "", api.OK, 0)
+	wantRegister(t, b, "w", "(X):-one(X)", "", api.OK, 0)
+	wantApply(t, a, []api.Entry{entry("one", 1, 2)}, api.OK, 0)
+	wantRead(t, a, "v", "[{[1] 1} {[2] 1}]")
+	wantRead(t, b, "v", "[]")
+	wantUnread(t, a, "w")
 	wantCreate(t, a, "x", 1, api.OK)
 	if _, wrong := b.Rows("x"); wrong != api.ErrUnknown {
 		t.Errorf("a relation of one engine is in the other: %d", wrong)
@@ -67,6 +75,7 @@ func TestApplyWritesIntoNothing(t *testing.T) {
 
 func TestApplyKeepsNothing(t *testing.T) {
 	e := engineOfThree(t)
+	wantRegister(t, e, "v", "(X,Y):-two(X,Y)", "", api.OK, 0)
 	batch := []api.Entry{entry("two", 1, 1, 2), entry("two", 1, 3, 4)}
 	wantApply(t, e, batch, api.OK, 0)
 	for i := range batch {
@@ -74,19 +83,43 @@ func TestApplyKeepsNothing(t *testing.T) {
 		batch[i].Relation, batch[i].Weight = "one", 77
 	}
 	wantRows(t, e, "two", "[{[1 2] 1} {[3 4] 1}]")
+	wantRead(t, e, "v", "[{[1 2] 1} {[3 4] 1}]")
 }
 
 func TestRowsAreTheCallers(t *testing.T) {
 	e := engineOfThree(t)
 	wantApply(t, e, []api.Entry{entry("two", 1, 1, 2), entry("two", 1, 3, 4), entry("two", 1, 5, 6)}, api.OK, 0)
-	const want = "[{[1 2] 1} {[3 4] 1} {[5 6] 1}]"
-	first, _ := e.Rows("two")
-	second, _ := e.Rows("two")
+	wantTheCallers(t, "[{[1 2] 1} {[3 4] 1} {[5 6] 1}]", func() []api.Row {
+		rows, _ := e.Rows("two")
+		return rows
+	})
+}
+
+func TestRowsOfAViewAreTheCallers(t *testing.T) {
+	e := engineOfThree(t)
+	wantRegister(t, e, "v", "(Y,X,Y):-two(X,Y)", "", api.OK, 0)
+	wantRegister(t, e, "w", "():-two(X,Y)", "", api.OK, 0)
+	wantApply(t, e, []api.Entry{entry("two", 1, 1, 2), entry("two", 1, 3, 4), entry("two", 1, 5, 6)}, api.OK, 0)
+	wantTheCallers(t, "[{[2 1 2] 1} {[4 3 4] 1} {[6 5 6] 1}]", func() []api.Row {
+		rows, _ := e.Read("v")
+		return rows
+	})
+	wantTheCallers(t, "[{[] 3}]", func() []api.Row {
+		rows, _ := e.Read("w")
+		return rows
+	})
+	// Nor does a view hang on what its owner wrote when it next gains.
+	wantApply(t, e, []api.Entry{entry("two", 1, 3, 4)}, api.OK, 0)
+	wantRead(t, e, "v", "[{[2 1 2] 1} {[4 3 4] 2} {[6 5 6] 1}]")
+}
+
+func wantTheCallers(t *testing.T, want string, ask func() []api.Row) {
+	t.Helper()
+	first, second := ask(), ask()
 	overwrite(first)
 	if got := fmt.Sprint(second); got != want {
 		t.Errorf("two answers share memory: %s", got)
 	}
-	wantRows(t, e, "two", want)
 	// A row's spare room must not reach into the next row.
 	for i := range second {
 		_ = append(second[i].Values, -1, -1)
@@ -98,7 +131,9 @@ func TestRowsAreTheCallers(t *testing.T) {
 	if got := fmt.Sprint(second); got != want {
 		t.Errorf("rows of one answer share spare room: %s", got)
 	}
-	wantRows(t, e, "two", want)
+	if got := fmt.Sprint(ask()); got != want {
+		t.Errorf("what is kept was written into: %s", got)
+	}
 }
 
 // overwrite writes into all of a list, its spare room too.

@@ -29,6 +29,7 @@ func wantNoView(t *testing.T, e *views.Engine, name, query, order string, want a
 	t.Helper()
 	before := tellAll(e)
 	wantRegister(t, e, name, query, order, want, place)
+	wantUnread(t, e, name)
 	wantDrop(t, e, name, api.ErrUnknown)
 	if after := tellAll(e); after != before {
 		t.Errorf("refused, yet it was %s and is %s", before, after)
@@ -349,11 +350,7 @@ func drawRegister(draw func(int) int) drawn {
 }
 
 func TestRegisterTellsWhatIsWrongAtTheLeastPlace(t *testing.T) {
-	state := uint64(3)
-	draw := func(n int) int {
-		state = state*6364136223846793005 + 1442695040888963407
-		return int(state>>33) % n
-	}
+	draw := drawFrom(3)
 	seen := map[api.Errno]int{}
 	e := engineOfThree(t)
 	for range 5000 {

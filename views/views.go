@@ -5,19 +5,24 @@ import (
 	"strings"
 
 	"views/api"
+	"views/index"
 	"views/relation"
 )
 
-// Engine: relations, and views of them. What a view holds cannot be asked yet,
-// so no more than its name is kept.
+// Engine: relations, views of them, and the indexes that the views go through.
 type Engine struct {
 	relations map[string]*relation.Relation
-	views     map[string]struct{}
+	indexes   map[index.Key]*index.Index
+	views     map[string]*view
 }
 
 // New makes an engine.
 func New() *Engine {
-	return &Engine{relations: map[string]*relation.Relation{}, views: map[string]struct{}{}}
+	return &Engine{
+		relations: map[string]*relation.Relation{},
+		indexes:   map[index.Key]*index.Index{},
+		views:     map[string]*view{},
+	}
 }
 
 // Create makes a relation (P3).
@@ -52,7 +57,7 @@ func (e *Engine) Register(name string, query string, order string) (api.Errno, i
 		return api.ErrOrder, 0
 	}
 	// The name may be a piece of a long text, which would be kept with it.
-	e.views[strings.Clone(name)] = struct{}{}
+	e.views[strings.Clone(name)] = e.newView(read, order)
 	return api.OK, 0
 }
 
@@ -62,6 +67,7 @@ func (e *Engine) Drop(name string) api.Errno {
 		return api.ErrUnknown
 	}
 	delete(e.views, name)
+	e.dropIndexes()
 	return api.OK
 }
 
@@ -79,9 +85,7 @@ func (e *Engine) Apply(batch []api.Entry) (api.Errno, int) {
 	if wrong := e.checkChanges(changes); wrong != api.OK {
 		return wrong, 0
 	}
-	for name, change := range changes {
-		e.relations[name].Add(change)
-	}
+	e.add(changes)
 	return api.OK, 0
 }
 
@@ -96,16 +100,30 @@ func (e *Engine) Rows(relation string) ([]api.Row, api.Errno) {
 	}
 	rows := make([]api.Row, 0, r.Len())
 	for row, weight := range r.All() {
-		// Each row has Values of its own: owners may write into them, and append.
-		values := make([]int64, r.Arity())
-		copy(values, row[:])
-		rows = append(rows, api.Row{Values: values, Weight: int64(weight)})
+		rows = append(rows, newRow(row[:r.Arity()], weight))
 	}
 	return rows, api.OK
 }
 
 // Read tells a view's rows (P7).
-func (e *Engine) Read(view string) ([]api.Row, api.Errno) { return nil, api.OK }
+func (e *Engine) Read(view string) ([]api.Row, api.Errno) {
+	v, known := e.views[view]
+	if !known {
+		return nil, api.ErrUnknown
+	}
+	rows := make([]api.Row, 0, len(v.weights))
+	for row, weight := range v.weights.All() {
+		rows = append(rows, newRow(row[:v.columns], weight))
+	}
+	return rows, api.OK
+}
 
 // Group tells a view's sums (P8).
 func (e *Engine) Group(view string, columns int) ([]api.Row, api.Errno) { return nil, api.OK }
+
+// newRow has Values of its own: owners may write into them, and append.
+func newRow(numbers []int64, weight int64) api.Row {
+	values := make([]int64, len(numbers))
+	copy(values, numbers)
+	return api.Row{Values: values, Weight: weight}
+}
