@@ -73,6 +73,20 @@ func (x *Index) Settle() {
 		added = merge(x.runs[last], added)
 		x.runs = slices.Delete(x.runs, last, last+1)
 	}
+	x.add(added)
+}
+
+// Compact makes one run of all.
+func (x *Index) Compact() {
+	var all run
+	for _, each := range x.runs {
+		all = merge(all, each)
+	}
+	x.runs = nil
+	x.add(all)
+}
+
+func (x *Index) add(added run) {
 	if len(added) > 0 {
 		x.runs = append(x.runs, added)
 	}

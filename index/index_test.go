@@ -216,3 +216,46 @@ func TestRunsStayFew(t *testing.T) {
 		t.Errorf("there were up to %d runs", most)
 	}
 }
+
+func (x *Index) take(change weights) {
+	x.Bring(change)
+	x.Settle()
+}
+
+// Compact makes one run of many: sorted, each row once, none without a weight.
+func TestCompactMakesOneRun(t *testing.T) {
+	x := made(Columns{1, 0, 2}, nil)
+	x.Compact()
+	if len(x.runs) != 0 {
+		t.Errorf("without a row there are %d runs", len(x.runs))
+	}
+	x.take(weights{{1, 9}: 1, {2, 8}: 2, {3, 8}: 3, {4, 8}: 4, {5, 7}: 5, {6, 7}: 6, {7, 7}: 7})
+	x.take(weights{{3, 8}: -3, {4, 8}: 1, {8, 0}: 8})
+	x.take(weights{{5, 7}: -6})
+	if len(x.runs) != 3 {
+		t.Fatalf("there are %d runs", len(x.runs))
+	}
+	const want = "[[{[0 8 0] 8} {[7 5 0] -1} {[7 6 0] 6} {[7 7 0] 7} {[8 2 0] 2} {[8 4 0] 5} {[9 1 0] 1}]]"
+	for range 2 {
+		x.Compact()
+		if got := fmt.Sprint(x.runs); got != want {
+			t.Errorf("the runs are %s, want %s", got, want)
+		}
+		wantNumbers(t, x.Batch())
+	}
+	x.take(weights{{8, 0}: -8})
+	wantNumbers(t, x.Old().Narrow(7), 5, 6, 7)
+	wantWeight(t, x.Old(), 20)
+}
+
+// What was handed out ahead of Compact is still what it was.
+func TestCompactWritesIntoNoRows(t *testing.T) {
+	x := made(straight, weights{{1}: 1, {3}: 1, {5}: 1, {7}: 1, {9}: 1})
+	x.take(weights{{2}: 1, {5}: -1})
+	rows := x.Old()
+	x.Compact()
+	x.take(weights{{4}: 1})
+	wantNumbers(t, rows, 1, 2, 3, 5, 7, 9)
+	wantWeight(t, rows.Narrow(5), 0)
+	wantNumbers(t, x.Old(), 1, 2, 3, 4, 7, 9)
+}

@@ -16,6 +16,13 @@ type Row [api.MaxHead]int64
 // Compare is below 0, if the row comes ahead of the other, and above 0, if behind it.
 func (r Row) Compare(other Row) int { return slices.Compare(r[:], other[:]) }
 
+// First has the row's first numbers alone, so that all rows that begin so are one.
+func (r Row) First(columns int) Row {
+	var first Row
+	copy(first[:columns], r[:])
+	return first
+}
+
 // Sources are the rows that each atom has. They are an array, so that each
 // number that is tried narrows a copy, and the next one starts as this one did.
 type Sources [api.MaxAtoms]index.Rows

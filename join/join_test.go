@@ -203,3 +203,15 @@ func TestRowsAreComparedNumberByNumber(t *testing.T) {
 		}
 	}
 }
+
+func TestFirst(t *testing.T) {
+	row := Row{5, 0, -7, 8}
+	for columns, want := range []Row{{}, {5}, {5, 0}, {5, 0, -7}, {5, 0, -7, 8}} {
+		if got := row.First(columns); got != want {
+			t.Errorf("First(%d) = %v, want %v", columns, got, want)
+		}
+	}
+	if row != (Row{5, 0, -7, 8}) {
+		t.Errorf("the row is %v now", row)
+	}
+}

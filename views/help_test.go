@@ -62,7 +62,8 @@ func wantRead(t *testing.T, e *views.Engine, view string, want string) {
 	}
 }
 
-// tellAll has the rows of all relations, and of all views with a name of one letter.
+// tellAll has the rows of all relations, and the rows and groups of all views
+// with a name of one letter.
 func tellAll(e *views.Engine) string {
 	text := ""
 	for _, name := range []string{"one", "two", "three"} {
@@ -72,6 +73,11 @@ func tellAll(e *views.Engine) string {
 	for name := 'a'; name <= 'z'; name++ {
 		if rows, wrong := e.Read(string(name)); wrong == api.OK {
 			text += fmt.Sprint(string(name), rows)
+		}
+		for columns := range api.MaxHead + 1 {
+			if rows, wrong := e.Group(string(name), columns); wrong == api.OK {
+				text += fmt.Sprint(columns, rows)
+			}
 		}
 	}
 	return text

@@ -1,6 +1,7 @@
 package views
 
 import (
+	"reflect"
 	"testing"
 	"unsafe"
 
@@ -112,5 +113,35 @@ func TestViewsKeepNoRowWithoutWeight(t *testing.T) {
 		if !x.New().Empty() {
 			t.Error("an index has rows")
 		}
+	}
+}
+
+// Compact makes one run of many, in each index, whatever view it is of. How
+// many runs there are can be seen from nowhere else.
+func TestCompactLeavesOneRunToEachIndex(t *testing.T) {
+	e := New()
+	e.Create("r", 2)
+	e.Create("s", 1)
+	e.Register("a", "(X,Y):-r(X,Y),r(Y,X)", "XY")
+	e.Register("b", "(X):-s(X)", "")
+	for _, count := range []int64{9, 4, 1} {
+		for i := range count {
+			e.Apply([]api.Entry{{Relation: "r", Row: []int64{i, count}, Weight: 1}, {Relation: "s", Row: []int64{i}, Weight: 1}})
+		}
+	}
+	runs := func() (least, most int) {
+		least = 100
+		for _, x := range e.indexes {
+			count := reflect.ValueOf(x).Elem().FieldByName("runs").Len()
+			least, most = min(least, count), max(most, count)
+		}
+		return least, most
+	}
+	if least, _ := runs(); len(e.indexes) != 3 || least < 2 {
+		t.Fatalf("there are %d indexes, one with %d runs", len(e.indexes), least)
+	}
+	e.Compact()
+	if least, most := runs(); least != 1 || most != 1 {
+		t.Errorf("there are %d to %d runs", least, most)
 	}
 }

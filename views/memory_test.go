@@ -19,6 +19,7 @@ func TestNoCallPanics(t *testing.T) {
 			for _, number := range numbers {
 				e.Create(text, number)
 				e.Group(text, number)
+				e.Group("v", number)
 				e.Apply([]api.Entry{{Relation: text, Weight: number}})
 				e.Apply([]api.Entry{{Relation: text, Row: make([]int64, 3), Weight: number}})
 				e.Apply([]api.Entry{{Relation: text, Row: make([]int64, 1<<10), Weight: number}})
@@ -31,6 +32,7 @@ func TestNoCallPanics(t *testing.T) {
 			e.Register("v", "(X):-one(X)", text)
 			e.Register("v", "(X):-one("+text, text)
 			e.Read("v")
+			e.Compact()
 		}
 		e.Apply(nil)
 		e.Apply(make([]api.Entry, 1<<16))
@@ -50,6 +52,9 @@ func TestEnginesKnowNothingOfOneAnother(t *testing.T) {
 	wantRead(t, a, "v", "[{[1] 1} {[2] 1}]")
 	wantRead(t, b, "v", "[]")
 	wantUnread(t, a, "w")
+	wantGroup(t, a, "v", 0, "[{[] 2}]")
+	wantGroup(t, b, "v", 0, "[]")
+	wantNoGroup(t, a, "w", 0, api.ErrUnknown)
 	wantCreate(t, a, "x", 1, api.OK)
 	if _, wrong := b.Rows("x"); wrong != api.ErrUnknown {
 		t.Errorf("a relation of one engine is in the other: %d", wrong)
@@ -111,6 +116,38 @@ func TestRowsOfAViewAreTheCallers(t *testing.T) {
 	// Nor does a view hang on what its owner wrote when it next gains.
 	wantApply(t, e, []api.Entry{entry("two", 1, 3, 4)}, api.OK, 0)
 	wantRead(t, e, "v", "[{[2 1 2] 1} {[4 3 4] 2} {[6 5 6] 1}]")
+}
+
+func TestGroupsAreTheCallers(t *testing.T) {
+	e := engineOfThree(t)
+	wantRegister(t, e, "v", "(X,Y):-two(X,Y)", "", api.OK, 0)
+	wantApply(t, e, []api.Entry{entry("two", 1, 1, 2), entry("two", 1, 1, 4), entry("two", 1, 5, 6)}, api.OK, 0)
+	for columns, want := range []string{"[{[] 3}]", "[{[1] 2} {[5] 1}]", "[{[1 2] 1} {[1 4] 1} {[5 6] 1}]"} {
+		wantTheCallers(t, want, func() []api.Row {
+			rows, _ := e.Group("v", columns)
+			return rows
+		})
+	}
+	// Nor does a view hang on what its owner wrote when it next gains.
+	wantApply(t, e, []api.Entry{entry("two", 1, 5, 7)}, api.OK, 0)
+	wantGroup(t, e, "v", 1, "[{[1] 2} {[5] 2}]")
+	wantRead(t, e, "v", "[{[1 2] 1} {[1 4] 1} {[5 6] 1} {[5 7] 1}]")
+}
+
+// What came out earlier stays as it is, whatever comes later.
+func TestAnswersStayAsTheyAre(t *testing.T) {
+	e := engineOfThree(t)
+	wantRegister(t, e, "v", "(X,Y):-two(X,Y)", "", api.OK, 0)
+	wantApply(t, e, []api.Entry{entry("two", 1, 1, 2), entry("two", 1, 1, 4)}, api.OK, 0)
+	groups, _ := e.Group("v", 1)
+	rows, _ := e.Read("v")
+	wantApply(t, e, []api.Entry{entry("two", 5, 1, 2), entry("two", 1, 0, 0)}, api.OK, 0)
+	e.Compact()
+	e.Group("v", 0)
+	e.Group("v", 2)
+	if got := fmt.Sprint(groups, rows); got != "[{[1] 2}] [{[1 2] 1} {[1 4] 1}]" {
+		t.Errorf("the answers are %s", got)
+	}
 }
 
 func wantTheCallers(t *testing.T, want string, ask func() []api.Row) {

@@ -67,6 +67,16 @@ func (v *view) around(atom int) join.Sources {
 	return sources
 }
 
+// group adds up the rows that begin with the same numbers, in any order: the
+// sums are the same.
+func (v *view) group(columns int) sums.Sums[join.Row] {
+	groups := sums.Sums[join.Row]{}
+	for row, weight := range v.weights {
+		groups.Add(row.First(columns), weight)
+	}
+	return groups
+}
+
 // indexOf finds an index, or makes it.
 func (e *Engine) indexOf(key index.Key) *index.Index {
 	x, known := e.indexes[key]

@@ -6,7 +6,9 @@ import (
 
 	"views/api"
 	"views/index"
+	"views/join"
 	"views/relation"
+	"views/sums"
 )
 
 // Engine: relations, views of them, and the indexes that the views go through.
@@ -90,7 +92,16 @@ func (e *Engine) Apply(batch []api.Entry) (api.Errno, int) {
 }
 
 // Compact makes one run of many (P9).
-func (e *Engine) Compact() int { return 0 }
+func (e *Engine) Compact() int {
+	for _, x := range e.indexes {
+		x.Compact()
+	}
+	count := 0
+	for _, r := range e.relations {
+		count += r.Len()
+	}
+	return count
+}
 
 // Rows tells a relation's rows (P7).
 func (e *Engine) Rows(relation string) ([]api.Row, api.Errno) {
@@ -111,15 +122,29 @@ func (e *Engine) Read(view string) ([]api.Row, api.Errno) {
 	if !known {
 		return nil, api.ErrUnknown
 	}
-	rows := make([]api.Row, 0, len(v.weights))
-	for row, weight := range v.weights.All() {
-		rows = append(rows, newRow(row[:v.columns], weight))
-	}
-	return rows, api.OK
+	return tell(v.weights, v.columns), api.OK
 }
 
 // Group tells a view's sums (P8).
-func (e *Engine) Group(view string, columns int) ([]api.Row, api.Errno) { return nil, api.OK }
+func (e *Engine) Group(view string, columns int) ([]api.Row, api.Errno) {
+	v, known := e.views[view]
+	if !known {
+		return nil, api.ErrUnknown
+	}
+	if columns < 0 || columns > v.columns {
+		return nil, api.ErrArity
+	}
+	return tell(v.group(columns), columns), api.OK
+}
+
+// tell has the rows in order, each with as many numbers as there are columns.
+func tell(weights sums.Sums[join.Row], columns int) []api.Row {
+	rows := make([]api.Row, 0, len(weights))
+	for row, weight := range weights.All() {
+		rows = append(rows, newRow(row[:columns], weight))
+	}
+	return rows
+}
 
 // newRow has Values of its own: owners may write into them, and append.
 func newRow(numbers []int64, weight int64) api.Row {
